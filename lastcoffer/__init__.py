@@ -1,0 +1,1 @@
+"""Lastcoffer: an insurer's reserve, and the chance that it does not last."""
