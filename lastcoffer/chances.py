@@ -1,6 +1,6 @@
 """Fractions, and spreads: values with exact chances."""
 
-from math import gcd
+from math import gcd, lcm
 
 from lastcoffer.errors import BadSpread, OutOfRange
 
@@ -125,3 +125,58 @@ def check_choice(spreads, chances):
 def shifted(spread, places):
     """Return the spread of the values plus an integer."""
     return [(value + places, chance) for value, chance in spread]
+
+
+def summed(pairs):
+    """Return the sum of pairs (top, low) as such a pair, which need not be in lowest terms.
+
+    Without reducing at each step, this is quicker than total for many pairs or long numbers.
+    """
+    top = 0
+    low = 1
+    for part_top, part_low in pairs:
+        if low % part_low != 0:
+            wider = lcm(low, part_low)
+            top = top * (wider // low)
+            low = wider
+        top += part_top * (low // part_low)
+    return (top, low)
+
+
+def integer_power(base, exponent):
+    """Return an integer to the power of an exponent that is at least 0."""
+    found = 1
+    for digit in f"{exponent:b}":
+        found = found * found
+        if digit == "1":
+            found = found * base
+    return found
+
+
+def power(base, exponent):
+    """Return a fraction to the power of an exponent that is at least 0."""
+    # Powers of numbers without a common divisor have none either.
+    return (integer_power(base[0], exponent), integer_power(base[1], exponent))
+
+
+def times_power(first, base, exponent):
+    """Return a fraction times the power of another one."""
+    top, low = power(base, exponent)
+    # The power is in lowest terms and may be long: it is reduced only against the short fraction.
+    left, right_low = fraction(first[0], low)
+    right, left_low = fraction(top, first[1])
+    return (left * right, left_low * right_low)
+
+
+def common_low(spreads):
+    """Return the least low over which all chances of the spreads can be written."""
+    low = 1
+    for spread in spreads:
+        for _, chance in spread:
+            low = lcm(low, chance[1])
+    return low
+
+
+def tops_over(spread, low):
+    """Return the spread with the tops of its chances over a common low, instead of the chances."""
+    return [(value, chance[0] * (low // chance[1])) for value, chance in spread]

@@ -7,7 +7,7 @@ import pathlib
 import unittest
 
 PACKAGE = pathlib.Path(__file__).resolve().parent.parent / "lastcoffer"
-LIBRARY = {"math": {"gcd"}}
+LIBRARY = {"math": {"gcd", "lcm"}}
 INTERFACE = {
     "errors": {"CofferError": None, "BadSpread": None, "BadHouse": None, "OutOfRange": None, "TooLong": None,
                "BadCommand": None},
@@ -18,6 +18,14 @@ INTERFACE = {
                 "shifted": ["spread", "places"]},
     "damages": {"check_damage": ["spread"], "check_treaty": ["treaty"], "remaining": ["treaty", "amount"],
                 "after_treaty": ["treaty", "spread"]},
+    "houses": {"check_house": ["house"], "total_damage": ["house", "weather"],
+               "change_of": ["house", "weather", "treaty"]},
+    "spans": {"least_ruin": ["house", "state", "years"], "best_treaty": ["house", "state", "years"],
+              "check_plan": ["house", "plan"], "chosen": ["plan", "state"],
+              "plan_ruin": ["house", "plan", "state", "years"], "outlook": ["house", "plan", "state", "years"]},
+    "tables": {"check_table": ["house", "table"], "value_at": ["table", "reserve", "weather"],
+               "mean_after": ["house", "table", "state", "treaty"], "is_upper": ["house", "paper"],
+               "is_lower": ["house", "paper"]},
 }
 
 
