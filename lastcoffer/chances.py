@@ -168,13 +168,17 @@ def times_power(first, base, exponent):
     return (left * right, left_low * right_low)
 
 
+def common_low_of(fractions):
+    """Return the least low over which all of some fractions can be written."""
+    low = 1
+    for part in fractions:
+        low = lcm(low, part[1])
+    return low
+
+
 def common_low(spreads):
     """Return the least low over which all chances of the spreads can be written."""
-    low = 1
-    for spread in spreads:
-        for _, chance in spread:
-            low = lcm(low, chance[1])
-    return low
+    return common_low_of([chance for spread in spreads for _, chance in spread])
 
 
 def tops_over(spread, low):

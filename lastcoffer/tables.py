@@ -152,14 +152,25 @@ def check_judged(most):
         raise TooLong("reserves above 5000 would have to be judged")
 
 
+def upper_reach(year, paper):
+    """Return two reserves of an upper paper; the second one is the greatest one that is judged.
+
+    From the first one on, values and means are multiplied by q from one reserve to the next, as
+    long as the treaty stays the same. Raise TooLong if the second one is too great.
+    """
+    plan, table = paper
+    loss = year.greatest_loss()
+    size = len(table[0][0])
+    most = max([size] + [len(choices) for choices in plan]) + loss
+    check_judged(most)
+    return size + loss, most
+
+
 def is_upper(house, paper):
     """Tell whether a plan and a table are an upper paper."""
     plan, table = paper
     year = Year(house)
-    # From here on, both sides are multiplied by q, as long as the treaty stays the same.
-    settled = len(table[0][0]) + year.greatest_loss()
-    most = max([len(table[0][0])] + [len(choices) for choices in plan]) + year.greatest_loss()
-    check_judged(most)
+    settled, most = upper_reach(year, paper)
     if any([is_less(worth, ZERO) for worth in worths_in(table)]):
         return False
     for weather, row in enumerate(year.changes):

@@ -46,3 +46,7 @@ class Year:
     def greatest_loss(self):
         """Return the greatest loss of a year, 0 if there is none."""
         return max([len(change.falls) for row in self.changes for change in row])
+
+    def blend(self, numbers, weather):
+        """Return the sum of one number for each weather of the next year, times the tops of the turns to them."""
+        return sum([part * numbers[turn] for turn, part in self.turns[weather]])

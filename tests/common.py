@@ -10,26 +10,54 @@ REFUSALS = ("BadSpread", "BadHouse", "OutOfRange", "TooLong", "BadCommand")
 HUGE = 10 ** 60 - 1
 
 
-def refused(case, name, act, *args):
-    """Check that a call raises the named class, and none of the other four."""
+def refused(case, name, act, *args, **named):
+    """Check that a call raises the named class, and none of the other four, and changes no argument."""
+    before = copy.deepcopy((args, named))
     try:
-        act(*args)
+        act(*args, **named)
     except ValueError as error:
+        case.assertEqual((args, named), before, act)
         case.assertIs(error.__class__, getattr(errors, name), args)
         case.assertIsInstance(error, errors.CofferError)
         for other in REFUSALS:
             if other != name:
                 case.assertNotIsInstance(error, getattr(errors, other))
         return
-    case.fail(f"{act.__name__}{args!r} was not refused")
+    case.fail(f"{act.__name__}{args!r}{named!r} was not refused")
 
 
-def untouched(case, act, *args):
+def untouched(case, act, *args, **named):
     """Return the answer of a call, and check that its arguments are the same afterwards."""
-    before = copy.deepcopy(args)
-    answer = act(*args)
-    case.assertEqual(args, before, act.__name__)
+    before = copy.deepcopy((args, named))
+    answer = act(*args, **named)
+    case.assertEqual((args, named), before, act.__name__)
     return answer
+
+
+def lists_in(value):
+    """Return all lists in a value, at each place where they occur."""
+    found = [value] if isinstance(value, list) else []
+    if isinstance(value, (list, tuple)):
+        for part in value:
+            found.extend(lists_in(part))
+    return found
+
+
+def fresh(case, act, *args, **named):
+    """Return the answer of a call whose lists are new, at one place each, and may be spoilt without any effect."""
+    answer = untouched(case, act, *args, **named)
+    expected = copy.deepcopy(answer)
+    before = copy.deepcopy((args, named))
+    own = lists_in(answer)
+    case.assertEqual(len({id(one) for one in own}), len(own), act.__name__)
+    given = {id(one) for one in lists_in([args, list(named.values())])}
+    case.assertFalse([one for one in own if id(one) in given], act.__name__)
+    for one in own:
+        one.append("spoilt")
+        one.reverse()
+    case.assertEqual((args, named), before, act.__name__)
+    case.assertEqual(act(*args, **named), expected, act.__name__)
+    return expected
 
 
 def is_new(case, act, *args):

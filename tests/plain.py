@@ -1,5 +1,6 @@
 """Plain reckoning with Fractions and by going through all cases, and houses to try it on."""
 
+import copy
 import random
 from fractions import Fraction
 from itertools import product
@@ -170,3 +171,78 @@ def large_house(most):
     """Return a house with four weathers and changes that take all values from -most to 0, with 180 < most < 360."""
     lines = [even(range(30)), even(range(0, 180, 30)), even([0, most - 179])]
     return ([(0, lines, even(range(4))) for _ in range(4)], [FREE])
+
+
+def plainly_solved(rows):
+    """Solve equations with their right sides behind them; None if there is not exactly one solution."""
+    many = len(rows)
+    rows = [[Fraction(part) for part in row] for row in rows]
+    for k in range(many):
+        pivot = next((row for row in rows[k:] if row[k] != 0), None)
+        if pivot is None:
+            return None
+        rows.remove(pivot)
+        rows.insert(k, [part / pivot[k] for part in pivot])
+        rows = [row if at == k else [a - row[k] * b for a, b in zip(row, rows[k])] for at, row in enumerate(rows)]
+    return [row[many:] for row in rows]
+
+
+def solution(plain, treaties, q):
+    """Solve the equations c(w) = 1 + W(w) * sum of turns * c(u); None if it is not greater than 0."""
+    many = len(plain.weathers)
+    weights = [sum(chance * q ** value for value, chance in plain.changes[w, treaties[w]].items()) for w in range(many)]
+    found = plainly_solved([[(w == u) - weights[w] * plain.turns[w].get(u, 0) for u in range(many)] + [1]
+                            for w in range(many)])
+    if found is None or min(found) <= [0]:
+        return None
+    return [c / min(found)[0] for c, in found]
+
+
+def rounded(worth, grain, up):
+    top = worth * grain
+    return Fraction(-(-top.numerator // top.denominator) if up else top.numerator // top.denominator, grain)
+
+
+def found_upper(plain, treaties, q, size, rounds, grain=1000):
+    """Return an upper paper by the way of the points 19 and 20, or None."""
+    tail = solution(plain, treaties, q)
+    if tail is None:
+        return None
+    plan = [[treaty] for treaty in treaties]
+    rows = [[c * q ** k for k in range(size)] for c in tail]
+    for _ in range(rounds):
+        table = as_table(rows, [c * q ** size for c in tail], q)
+        rows = [[min(rows[w][r], rounded(plain.mean(table, (r, w), treaties[w]), grain, True)) for r in range(size)]
+                for w in plain.weathers]
+    return (plan, as_table(rows, [c * q ** size for c in tail], q))
+
+
+def found_lower(plain, d, q, size, rounds, grain=1000):
+    """Return a lower paper by the way of the point 21."""
+    rows = [[Fraction(0)] * size for _ in plain.weathers]
+    scales = [Fraction(0)] * len(rows)
+    for _ in range(rounds):
+        table = as_table(rows, scales, q)
+        rows = [[max(rows[w][r], rounded(d * min(plain.mean(table, (r, w), t) for t in plain.treaties), grain, False))
+                 for r in range(size)] for w in plain.weathers]
+    return (pair(d), as_table(rows, scales, q))
+
+
+def as_table(rows, scales, q):
+    return ([[pair(item) for item in row] for row in rows], [pair(c) for c in scales], pair(q))
+
+
+def changed(table, weather, place, worth):
+    """Return a table with another item; the place behind the row is the scale."""
+    rows, scales, q = copy.deepcopy(table)
+    if place == len(rows[weather]):
+        scales[weather] = worth
+    else:
+        rows[weather][place] = worth
+    return (rows, scales, q)
+
+
+def moved_by(table, weather, place, by):
+    rows, scales, _ = table
+    worth = [*rows[weather], scales[weather]][place]
+    return changed(table, weather, place, pair(read(worth) + by))

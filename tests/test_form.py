@@ -26,7 +26,15 @@ INTERFACE = {
     "tables": {"check_table": ["house", "table"], "value_at": ["table", "reserve", "weather"],
                "mean_after": ["house", "table", "state", "treaty"], "is_upper": ["house", "paper"],
                "is_lower": ["house", "paper"]},
+    "finders": {"weight": ["spread", "q"], "tail": ["house", "treaties", "q"],
+                "find_upper": ["house", "treaties", "*size", "*q", "*grain", "*rounds"],
+                "find_lower": ["house", "*discount", "*size", "*q", "*grain", "*rounds"],
+                "better_plan": ["house", "paper"]},
+    "exact": {"is_certain": ["spread"], "exact_ruin": ["spread", "reserve"], "least_reserve": ["spread", "bound"]},
+    "barriers": {"yields": ["house", "plan", "barrier"], "best_barrier": ["house", "plan", "state", "most"]},
+    "desk": {"Desk": None},
 }
+METHODS = {("desk", "Desk", "ask"): ["self", "command"], ("desk", "Desk", "__init__"): ["self", "house"]}
 
 
 def sources():
@@ -35,6 +43,11 @@ def sources():
 
 def trees():
     return [(path, ast.parse(path.read_text("utf-8"))) for path in sources()]
+
+
+def parameters(act):
+    """Return the names of the parameters, with a star before those that are passed by keyword."""
+    return [("*" if one.kind is one.KEYWORD_ONLY else "") + one.name for one in inspect.signature(act).parameters.values()]
 
 
 class Form(unittest.TestCase):
@@ -84,4 +97,9 @@ class Interface(unittest.TestCase):
                 if arguments is None:
                     self.assertTrue(inspect.isclass(held))
                 else:
-                    self.assertEqual(list(inspect.signature(held).parameters), arguments)
+                    self.assertEqual(parameters(held), arguments)
+
+    def test_methods_stand_in_their_classes(self):
+        for (module, name, method), arguments in METHODS.items():
+            held = getattr(importlib.import_module("lastcoffer." + module), name)
+            self.assertEqual(parameters(vars(held)[method]), arguments)

@@ -1,6 +1,5 @@
 """Points 16 to 18: upper and lower papers, and the judge of them."""
 
-import copy
 import random
 import unittest
 from fractions import Fraction
@@ -8,7 +7,8 @@ from fractions import Fraction
 from lastcoffer.spans import least_ruin, plan_ruin
 from lastcoffer.tables import is_lower, is_upper
 from common import HUGE, even, pair, read, refused, untouched
-from plain import FREE, SAFE, SURE, WALK, Plain, plain_value, some_house, some_plan, some_table
+from plain import (FREE, SAFE, SURE, WALK, Plain, changed, found_lower, found_upper, moved_by, plain_value, some_house,
+                   some_plan, some_table)
 
 STILL = ([(0, [], SURE)], [FREE])
 TINY = Fraction(1, HUGE)
@@ -18,72 +18,6 @@ def geometric(size, ratio=Fraction(1, 2)):
     """Return a table with the values ratio ** (r + 1), of which so many stand in the row."""
     row = [pair(ratio ** (reserve + 1)) for reserve in range(size)]
     return ([row], [pair(ratio ** (size + 1))], pair(ratio))
-
-
-def changed(table, weather, place, worth):
-    """Return a table with another item; the place behind the row is the scale."""
-    rows, scales, q = copy.deepcopy(table)
-    if place == len(rows[weather]):
-        scales[weather] = worth
-    else:
-        rows[weather][place] = worth
-    return (rows, scales, q)
-
-
-def moved_by(table, weather, place, by):
-    rows, scales, _ = table
-    worth = [*rows[weather], scales[weather]][place]
-    return changed(table, weather, place, pair(read(worth) + by))
-
-
-def solution(plain, treaties, q):
-    """Solve the equations c(w) = 1 + W(w) * sum of turns * c(u); None if it is not greater than 0."""
-    many = len(plain.weathers)
-    weights = [sum(chance * q ** value for value, chance in plain.changes[w, treaties[w]].items()) for w in range(many)]
-    rows = [[(w == u) - weights[w] * plain.turns[w].get(u, 0) for u in range(many)] + [Fraction(1)] for w in range(many)]
-    for k in range(many):
-        pivot = next((row for row in rows[k:] if row[k] != 0), None)
-        if pivot is None:
-            return None
-        rows.remove(pivot)
-        rows.insert(k, [part / pivot[k] for part in pivot])
-        rows = [row if at == k else [a - row[k] * b for a, b in zip(row, rows[k])] for at, row in enumerate(rows)]
-    found = [row[many] for row in rows]
-    return [c / min(found) for c in found] if min(found) > 0 else None
-
-
-def rounded(worth, grain, up):
-    top = worth * grain
-    return Fraction(-(-top.numerator // top.denominator) if up else top.numerator // top.denominator, grain)
-
-
-def found_upper(plain, treaties, q, size, rounds, grain=1000):
-    """Return an upper paper by the way of the points 19 and 20, or None."""
-    tail = solution(plain, treaties, q)
-    if tail is None:
-        return None
-    plan = [[treaty] for treaty in treaties]
-    rows = [[c * q ** k for k in range(size)] for c in tail]
-    for _ in range(rounds):
-        table = as_table(rows, [c * q ** size for c in tail], q)
-        rows = [[min(rows[w][r], rounded(plain.mean(table, (r, w), treaties[w]), grain, True)) for r in range(size)]
-                for w in plain.weathers]
-    return (plan, as_table(rows, [c * q ** size for c in tail], q))
-
-
-def found_lower(plain, d, q, size, rounds, grain=1000):
-    """Return a lower paper by the way of the point 21."""
-    rows = [[Fraction(0)] * size for _ in plain.weathers]
-    scales = [Fraction(0)] * len(rows)
-    for _ in range(rounds):
-        table = as_table(rows, scales, q)
-        rows = [[max(rows[w][r], rounded(d * min(plain.mean(table, (r, w), t) for t in plain.treaties), grain, False))
-                 for r in range(size)] for w in plain.weathers]
-    return (pair(d), as_table(rows, scales, q))
-
-
-def as_table(rows, scales, q):
-    return ([[pair(item) for item in row] for row in rows], [pair(c) for c in scales], pair(q))
 
 
 class Upper(unittest.TestCase):
@@ -284,6 +218,59 @@ class Lower(unittest.TestCase):
             for reserve in range(8):
                 least = read(least_ruin(house, (reserve, 0), 6))
                 self.assertGreaterEqual(least, plain_value(table, reserve, 0) - read(d) ** 6)
+
+
+class Found(unittest.TestCase):
+    """Tables that are close to papers: both judges against plain judging."""
+
+    def both(self, house, plan, d, table, told):
+        plain = Plain(house)
+        for judge, paper, expected in ((is_upper, (plan, table), plain.is_upper((plan, table))),
+                                       (is_lower, (d, table), plain.is_lower((d, table)))):
+            self.assertIs(untouched(self, judge, house, paper), expected, (house, paper))
+            told[judge.__name__, expected] = told.get((judge.__name__, expected), 0) + 1
+
+    def test_drawn_tables_ones_and_zeros(self):
+        chooser = random.Random(33)
+        told = {}
+        for seed in range(90):
+            house = some_house(seed, 5)
+            many = len(house[0])
+            size = seed % 5
+            q = pair(Fraction(1 + seed % 6, 2 + seed % 6))
+            d = pair(Fraction(chooser.randint(-1, 11), 10))
+            scale = chooser.choice([(1, 1), (1, 2), (0, 1), q])
+            for row in ([(1, 1)] * size, [(0, 1)] * size):
+                self.both(house, some_plan(chooser, house), d, ([list(row) for _ in range(many)], [scale] * many, q), told)
+            self.both(house, some_plan(chooser, house), d, some_table(chooser, house, size, (0, 7)), told)
+            self.both(house, some_plan(chooser, house), d, some_table(chooser, house, size, (-7, 1)), told)
+        self.assertEqual(len(told), 4)
+        self.assertGreater(min(told.values()), 20, told)
+
+    def test_found_papers_with_one_thing_changed(self):
+        chooser = random.Random(34)
+        told = {}
+        for seed in range(60):
+            house = some_house(seed, 4)
+            plain = Plain(house)
+            treaties = [chooser.randrange(len(house[1])) for _ in house[0]]
+            d = Fraction(chooser.randint(5, 9), 10)
+            found = [found_lower(plain, d, Fraction(1, 2), seed % 5, seed % 6)[1]]
+            paper = found_upper(plain, treaties, Fraction(4, 5), seed % 5, seed % 6)
+            if paper is not None:
+                found.append(paper[1])
+            for table in found:
+                rows, scales, q = table
+                near = [(d, table)]
+                for other in (TINY, -TINY, Fraction(1, 9), Fraction(-1, 9)):
+                    near.append((d + other, table))
+                    near.append((d, (rows, scales, pair(read(q) + other))))
+                    near.append((d, moved_by(table, chooser.randrange(len(rows)), chooser.randint(0, len(rows[0])), other)))
+                    near.append((d, moved_by(table, chooser.randrange(len(rows)), len(rows[0]), other)))
+                for discount, close in near:
+                    self.both(house, [[t] for t in treaties], pair(discount), close, told)
+        self.assertEqual(len(told), 4)
+        self.assertGreater(min(told.values()), 50, told)
 
 
 class Long(unittest.TestCase):
