@@ -7,6 +7,8 @@ from lastcoffer.years import Year
 MOST_YEARS = 60
 MOST_RESERVE = 100000
 MOST_STATES = 20000
+# So many reserves are looked at together.
+BLOCK = 1024
 
 
 def check_span(house, state, years, fewest):
@@ -39,12 +41,12 @@ def best_treaty(house, state, years):
 def treaty_risks(house, state, years):
     """Return the least chance of ruin for each treaty of the first year: the tops, and their low."""
     year = Year(house)
-    levels = reached(year, everywhere(year), state, years)
+    levels = reached(year, AnyWay(year), state, years)
     ahead = [{} for _ in year.turns]
     low = 1
-    for masks in reversed(levels[1:]):
-        risks = [least_risks(year, weather, reserves_in(mask), ahead[weather], low)
-                 for weather, mask in enumerate(masks)]
+    for blocks in reversed(levels[1:]):
+        risks = [least_risks(year, weather, reserves_in(masks), ahead[weather], low)
+                 for weather, masks in enumerate(blocks)]
         ahead = [blended(turns, risks) for turns in year.turns]
         low = low * year.low
     reserve, weather = state
@@ -81,66 +83,100 @@ def blended(turns, risks):
     return found
 
 
-def reached(year, places, state, years):
-    """Return the states that can be reached at the beginning of each year: a mask for each weather.
+class AnyWay:
+    """What may follow the states of a house, whatever is chosen."""
 
-    The bit k of a mask tells of the reserve k. places has such a mask, too, for each
-    weather and treaty: of the reserves in which the treaty may be chosen.
+    def __init__(self, year):
+        self.gains = [sorted({value for change in row for value, _ in change.parts}) for row in year.changes]
+
+    def branches(self, weather, _, mask):
+        """Return masks of the states of a block, each one with the values of the changes that may follow."""
+        return [(mask, self.gains[weather])]
+
+
+class PlanWay:
+    """What may follow the states of a house by a plan."""
+
+    def __init__(self, year, plan):
+        self.gains = [[[value for value, _ in change.parts] for change in row] for row in year.changes]
+        self.plan = plan
+
+    def branches(self, weather, block, mask):
+        """Return masks of the states of a block, each one with the values of the changes that may follow."""
+        start = block * BLOCK
+        masks = {}
+        if start + 1 >= len(self.plan[weather]):
+            # All reserves from here on have the last treaty of the list.
+            masks[self.plan[weather][-1]] = mask
+        else:
+            for place in bits_of(mask):
+                treaty = chosen(self.plan, (start + place, weather))
+                masks[treaty] = masks.get(treaty, 0) | (1 << place)
+        return [(part, self.gains[weather][treaty]) for treaty, part in masks.items()]
+
+
+def reached(year, way, state, years):
+    """Return the states that can be reached at the beginning of each year: a dict of blocks for each weather.
+
+    A block has a number and a mask, whose bits tell which ones of its reserves are reached. So
+    states that are close to each other are looked at together, and those between distant ones not
+    at all.
     """
     reserve, weather = state
-    masks = [0 for _ in year.turns]
-    masks[weather] = 1 << reserve
-    found = [masks]
+    blocks = [{} for _ in year.turns]
+    blocks[weather][reserve // BLOCK] = 1 << (reserve % BLOCK)
+    found = [blocks]
     room = MOST_STATES
     for _ in range(years - 1):
-        masks = masks_after(year, places, masks)
-        room -= sum([len(reserves_in(mask)) for mask in masks])
+        blocks = blocks_after(year, way, blocks)
+        room -= sum([len(reserves_in(masks)) for masks in blocks])
         if room < 0:
             raise TooLong("more than 20000 states would have to be looked at")
-        found.append(masks)
+        found.append(blocks)
     return found
 
 
-def masks_after(year, places, masks):
-    """Return the masks of the states that can be reached a year later."""
-    found = [0 for _ in masks]
-    for weather, mask in enumerate(masks):
-        moved = 0
-        for place, change in zip(places[weather], year.changes[weather]):
-            for value, _ in change.parts:
-                # A shift to the right drops the reserves that fall below 0.
-                moved |= (mask & place) << value if value >= 0 else (mask & place) >> -value
+def blocks_after(year, way, blocks):
+    """Return the blocks of the states that can be reached a year later."""
+    found = [{} for _ in blocks]
+    for weather, masks in enumerate(blocks):
+        moved = {}
+        for block, mask in masks.items():
+            for part, values in way.branches(weather, block, mask):
+                for value in values:
+                    add_moved(moved, block * BLOCK + value, part)
         for turn, _ in year.turns[weather]:
-            found[turn] |= moved
+            for block, mask in moved.items():
+                found[turn][block] = found[turn].get(block, 0) | mask
     return found
 
 
-def reserves_in(mask):
-    """Return the reserves of a mask, in ascending order."""
+def add_moved(masks, start, mask):
+    """Add reserves to the masks of blocks: the first bit of a mask tells of the reserve start.
+
+    Those below 0 are left out.
+    """
+    wide = mask << (start % BLOCK)
+    above = wide >> BLOCK
+    block = start // BLOCK
+    for at, part in ((block, wide ^ (above << BLOCK)), (block + 1, above)):
+        if at >= 0 and part > 0:
+            masks[at] = masks.get(at, 0) | part
+
+
+def reserves_in(masks):
+    """Return the reserves in the masks of blocks, in ascending order."""
+    return [block * BLOCK + place for block in sorted(masks) for place in bits_of(masks[block])]
+
+
+def bits_of(mask):
+    """Return the places of the bits of a mask, in ascending order."""
     digits = f"{mask:b}"[::-1]
     found = []
     at = digits.find("1")
     while at >= 0:
         found.append(at)
         at = digits.find("1", at + 1)
-    return found
-
-
-def everywhere(year):
-    """Return the places of ways, which may choose each treaty in all reserves."""
-    return [[-1 for _ in row] for row in year.changes]
-
-
-def places_of(plan, year):
-    """Return the places of a plan: for each weather and treaty the mask of its reserves."""
-    found = []
-    for choices, row in zip(plan, year.changes):
-        masks = [0 for _ in row]
-        for reserve, treaty in enumerate(choices[:-1]):
-            masks[treaty] |= 1 << reserve
-        # All bits from the last item on: -1 is the number in which all bits are set.
-        masks[choices[-1]] |= -1 << (len(choices) - 1)
-        found.append(masks)
     return found
 
 
@@ -183,7 +219,7 @@ def outlook(house, plan, state, years):
 def followed(house, plan, state, years):
     """Return the top of the chance of ruin, dicts by weathers of those of the reserves, and their low."""
     year = Year(house)
-    reached(year, places_of(plan, year), state, years)
+    reached(year, PlanWay(year, plan), state, years)
     reserve, weather = state
     held = [{} for _ in year.turns]
     held[weather][reserve] = 1

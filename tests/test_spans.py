@@ -6,8 +6,8 @@ from fractions import Fraction
 
 from lastcoffer.errors import TooLong
 from lastcoffer.spans import best_treaty, least_ruin, outlook, plan_ruin
-from common import HUGE, even, pair, read, refused, untouched
-from plain import FREE, SAFE, SURE, WALK, Plain, large_house, some_house, some_plan
+from common import HUGE, even, pair, read, refused, some_spread, untouched
+from plain import FREE, SAFE, SURE, WALK, Plain, large_house, plain_chosen, some_house, some_plan
 
 HALVES = ([(1, [even([0, 2])], SURE)], [FREE])
 # A year costs 1 for sure (treaty 0), or 3 with the chance 1/4 (treaty 1).
@@ -252,6 +252,66 @@ class Bounds(unittest.TestCase):
                     self.assertEqual(outlook(house, plan, (start, 0), 60), ((0, 1), [(start, 0, (1, 1))]))
         self.assertEqual(plan_ruin(house, [[1, 1, 1, 0]], (2, 0), 60), (0, 1))
         refused(self, "TooLong", plan_ruin, house, [[1, 1, 1, 0]], (3, 0), 60)
+
+
+class Far(unittest.TestCase):
+    """The states that are reached may be few, but lie far from 0 and far apart."""
+
+    def test_one_state_in_each_year(self):
+        house = ([(0, [], [(0, (1, 1))])], [(0, [])])
+        for reserve in (0, 1, 1023, 1024, 99999, 100000):
+            state = (reserve, 0)
+            self.assertEqual(least_ruin(house, state, 60), (0, 1))
+            self.assertEqual(best_treaty(house, state, 60), 0)
+            for plan in ([[0]], [[0] * 5], [[0] * 100000], [[0] * 100001], [[0] * 100002]):
+                self.assertEqual(plan_ruin(house, plan, state, 60), (0, 1))
+                self.assertEqual(outlook(house, plan, state, 60), ((0, 1), [(reserve, 0, (1, 1))]))
+
+    def test_the_same_years_from_another_reserve(self):
+        # What a year may lose is less than these reserves, so it makes no difference where the years begin.
+        for seed in range(12):
+            house = some_house(seed)
+            plan = [[len(house[1]) - 1] for _ in house[0]]
+            _, near = outlook(house, plan, (60, 0), 2)
+            for reserve in (1000, 1024, 2040, 30000, 100000):
+                self.assertEqual(least_ruin(house, (reserve, 0), 2), (0, 1))
+                self.assertEqual(best_treaty(house, (reserve, 0), 2), 0)
+                moved = [(one - 60 + reserve, weather, chance) for one, weather, chance in near]
+                self.assertEqual(outlook(house, plan, (reserve, 0), 2), ((0, 1), moved))
+
+    def test_states_far_apart(self):
+        chooser = random.Random(15)
+        for seed in range(24):
+            spans = [chooser.choice([1, 5, 300, 997, 1000]) for _ in range(2)]
+            house = ([(chooser.choice([0, 400, 1000]), [some_spread(seed, 2, 0, 4), even([0, spans[0]]), even([0, spans[1]])],
+                       even([0, 1])), (chooser.choice([0, 900]), [even([0, spans[0]])], SURE)],
+                     [FREE, (chooser.choice([0, 600]), [("limit", 700)])])
+            plain = Plain(house)
+            plan = [[chooser.randrange(2) for _ in range(chooser.choice([1, 900, 1024, 1025, 1600]))] for _ in range(2)]
+            for reserve in (0, 700, 1023, 1024, 1500, 2047, 3000):
+                state, years = (reserve, reserve % 2), 3
+                self.assertEqual(least_ruin(house, state, years), pair(plain.least(state, years)))
+                risks = [plain.risk(state, treaty, years) for treaty in plain.treaties]
+                self.assertEqual(best_treaty(house, state, years), risks.index(min(risks)))
+                ruined, held = plain.outlook(lambda now, left: plain_chosen(plan, now), state, years)
+                self.assertEqual(plan_ruin(house, plan, state, years), pair(ruined))
+                self.assertEqual(outlook(house, plan, state, years),
+                                 (pair(ruined), [(r, w, pair(held[r, w])) for r, w in sorted(held)]))
+
+    def test_steps_of_1000_in_60_years(self):
+        # Each year the reserve rises or falls by 1000, or stays: from 59999 it takes 60 falls to ruin, from 60000 there is none.
+        house = ([(1000, [even([0, 1000]), even([0, 1000])], SURE)], [FREE, FREE])
+        for reserve, expected in ((59999, Fraction(1, 4 ** 60)), (60000, 0), (100000, 0)):
+            for act in (least_ruin, lambda h, s, n: plan_ruin(h, [[1]], s, n)):
+                self.assertEqual(act(house, (reserve, 0), 60), pair(expected))
+
+    def test_as_many_states_as_before_are_refused(self):
+        # 20000 states are looked at, 20060 are not, wherever they lie.
+        self.assertEqual([4 * sum(k * most + 1 for k in range(1, 6)) for most in (333, 334)], [20000, 20060])
+        for reserve in (2004, 100000):
+            for act in (least_ruin, lambda h, s, n: plan_ruin(h, [[0]] * 4, s, n)):
+                self.assertEqual(act(large_house(333), (reserve, 3), 6), (0, 1))
+                refused(self, "TooLong", act, large_house(334), (reserve, 3), 6)
 
 
 def choose(many, some):
