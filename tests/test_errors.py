@@ -29,3 +29,9 @@ class Errors(unittest.TestCase):
             self.assertEqual(str(held.exception), "told")
             for other in REFUSALS:
                 self.assertEqual(isinstance(held.exception, getattr(errors, other)), other == name)
+
+    def test_the_base_is_none_of_the_others(self):
+        base = errors.CofferError("told")
+        for name in REFUSALS:
+            self.assertNotIsInstance(base, getattr(errors, name))
+            self.assertIsInstance(getattr(errors, name)(""), ValueError)
